@@ -1,0 +1,1 @@
+"""Which writes through a copy of some depth can reach a reader."""
