@@ -2,19 +2,24 @@
 
 from thawedwrites.errors import (Hollow, InvalidArgument, InvalidFacts, InvalidHeap, InvalidProgram, InvalidText,
                                  LimitExceeded, Refused)
+from thawedwrites.facts import Facts
 from thawedwrites.heaps import Heap
+from thawedwrites.live import Live
 from thawedwrites.programs import Program
+from thawedwrites.runs import Run
 
 HEAP = Heap(["f"], [{"f": None}], {"a": 0})
 PROGRAM = Program(["a"], ["f"], [("new", "a")])
+FACTS = Facts(["f"], {"a": 0}, {})
 
 # Values of every kind, none of which is an integer or a word.
 NEITHER = [
     None, True, False, 0.0, 1.0, float("nan"), float("inf"), 1j, "", "A", "aB", "a1", "a b", " a", "a\n", "a_b",
     "\u00e4", "abcdefghi", "a" * 1000, b"a", b"", bytearray(b"a"), [], ["a"], (), ("a",), {}, {"a": 0}, set(), {"a"},
     frozenset(), frozenset({"a"}), range(2), slice(0, 1), object(), int, len, lambda: 0, iter([]), Ellipsis,
-    NotImplemented, memoryview(b"a"), ValueError("a"), HEAP, PROGRAM, InvalidArgument("a"), InvalidHeap("name", "a"),
-    InvalidProgram("form", ()), InvalidFacts("far"), InvalidText(1), LimitExceeded(2), Hollow("a"), Refused("a"),
+    NotImplemented, memoryview(b"a"), ValueError("a"), HEAP, PROGRAM, FACTS, Run(PROGRAM, HEAP), Live(HEAP),
+    InvalidArgument("a"), InvalidHeap("name", "a"), InvalidProgram("form", ()), InvalidFacts("far"), InvalidText(1),
+    LimitExceeded(2), Hollow("a"), Refused("a"),
 ]
 INTEGERS = [0, 1, 4, -1, 10 ** 30]
 WORDS = ["a", "z", "f", "abcdefgh"]
@@ -47,6 +52,35 @@ def nest(depth, inner):
     return rows
 
 
+def chain(many):
+    """Objects with the field f of which each one holds the next one."""
+    return [{"f": at + 1 if at + 1 < many else None} for at in range(many)]
+
+
+def two(pairs):
+    """Objects with the fields f and g."""
+    return [{"f": f, "g": g} for f, g in pairs]
+
+
+def run_of(rows, objects, names):
+    """The run of the rows on a heap with these objects and names, which are the inputs."""
+    fields = list(objects[0]) if objects else ["f"]
+    return Run(Program(sorted(names), fields, rows), Heap(fields, objects, names))
+
+
+def live_of(objects, names):
+    """A live of a heap with these objects and names."""
+    return Live(Heap(list(objects[0]) if objects else ["f"], objects, names))
+
+
+def state(live):
+    """All that can be seen of a live with the variables a to e and one field f."""
+    cells = [live[name, "f"] if live.value(name) != ("none",) else None for name in "abcde"]
+    behind = live.behind(list("abcde"))
+    return ([live.value(name) for name in "abcde"], cells, live.made(), live.reached(), behind.objects(),
+            behind.names())
+
+
 class Checks:
     """Assertions that the test cases share."""
 
@@ -62,7 +96,18 @@ class Checks:
         self.assertEqual((caught.exception.part, caught.exception.place), (part, place), (inputs, fields, rows, more))
         self.assertIs(type(caught.exception.place), tuple)
 
-    def assert_argument_error(self, part, function, *args):
-        with self.assertRaises(InvalidArgument, msg=repr(args)) as caught:
-            function(*args)
+    def assert_facts_error(self, part, *args):
+        with self.assertRaises(InvalidFacts, msg=repr(args)) as caught:
+            Facts(*args)
+        self.assertEqual(caught.exception.part, part, args)
+
+    def assert_stopped(self, error, name, function, *args, **more):
+        with self.assertRaises(error, msg=repr(args)) as caught:
+            function(*args, **more)
+        self.assertIs(type(caught.exception), error)
+        self.assertEqual(caught.exception.name, name)
+
+    def assert_argument_error(self, part, function, *args, **more):
+        with self.assertRaises(InvalidArgument, msg=repr((args, more))) as caught:
+            function(*args, **more)
         self.assertEqual(caught.exception.part, part)

@@ -1,18 +1,8 @@
 import unittest
 
-from helpers import ALL, INTEGERS, NEITHER, PROGRAM, Checks, is_number
+from helpers import ALL, INTEGERS, NEITHER, PROGRAM, Checks, chain, is_number, two
 from thawedwrites.errors import InvalidArgument
 from thawedwrites.heaps import Heap
-
-
-def chain(many):
-    """Objects of which each one holds the next one."""
-    return [{"f": at + 1 if at + 1 < many else None} for at in range(many)]
-
-
-def two(pairs):
-    """Objects with the fields f and g."""
-    return [{"f": f, "g": g} for f, g in pairs]
 
 
 class HeapTest(Checks, unittest.TestCase):

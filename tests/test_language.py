@@ -40,6 +40,10 @@ INTERFACE = {
                "InvalidText": "", "LimitExceeded": "", "RunError": "", "Hollow": "", "Refused": ""},
     "heaps": {"Heap": "__init__ __getitem__ __contains__ __len__ __eq__ objects names at parts normal"},
     "programs": {"Program": "__init__ rows row places copies writes readers variables with_depths __or__ __eq__"},
+    "runs": {"Run": "__init__ end reached made value looks behind"},
+    "live": {"Live": "__init__ do duplicate watch value is_same made reached behind trial attempt __getitem__ "
+                     "__setitem__"},
+    "facts": {"Facts": "__init__ names edges heap told __eq__ __contains__ __len__"},
 }
 
 
