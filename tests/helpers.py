@@ -38,6 +38,21 @@ NINE = [
     ("empty", "a", [("copy", "a", "b", "thaw", 4)], []),
 ]
 
+# Rows of which a program with the inputs x, y and z and the fields f and g has just so many stories; see three_inputs().
+ROWS_2000 = [("empty", "x",
+              [("empty", "y", [], [("empty", "z", [("look", "b", "y", "f"), ("look", "c", "y", "g"),
+                                                   ("look", "c", "b", "f")],
+                                    [("look", "b", "y", "f"), ("look", "b", "z", "f")])])],
+              [("look", "b", "y", "f"), ("look", "b", "y", "g"), ("look", "b", "x", "f"), ("look", "b", "x", "g")])]
+ROWS_2001 = [("empty", "x",
+              [("look", "c", "z", "g"), ("look", "b", "z", "f")],
+              [("look", "b", "x", "g"), ("look", "b", "z", "f"), ("look", "b", "x", "f"), ("look", "c", "z", "g")])]
+
+
+def three_inputs(rows, ahead=()):
+    """The program with these rows; rows ahead that look at nothing do not change how many stories there are."""
+    return Program(["x", "y", "z"], ["f", "g"], list(ahead) + rows)
+
 
 def is_number(value, least, most):
     """True if the value is an integer from least to most."""
@@ -106,6 +121,11 @@ class Checks:
             function(*args, **more)
         self.assertIs(type(caught.exception), error)
         self.assertEqual(caught.exception.name, name)
+
+    def assert_limit(self, limit, function, *args, **more):
+        with self.assertRaises(LimitExceeded, msg=repr((args, more))) as caught:
+            function(*args, **more)
+        self.assertEqual(caught.exception.limit, limit)
 
     def assert_argument_error(self, part, function, *args, **more):
         with self.assertRaises(InvalidArgument, msg=repr((args, more))) as caught:

@@ -1,12 +1,15 @@
 """A second, plain way to run programs and rows, for comparison with the package.
 
 It follows the words of the document with one Python object for each object, and shares nothing with the package but
-the values that go in and out.
+the values that go in and out. At its end stands a plain way to find all stories.
 """
 
 import copy
 import itertools
 import random
+
+from thawedwrites.heaps import Heap
+from thawedwrites.programs import Program
 
 
 class Thing:
@@ -176,6 +179,15 @@ def model_of(heap):
     return Model(heap.fields, heap.objects(), heap.names())
 
 
+def all_heaps(fields, names, most, least=0):
+    """All heaps with so many objects."""
+    for many in range(least, most + 1):
+        values = [None] + list(range(many))
+        for held in itertools.product(values, repeat=len(names)):
+            for cells in itertools.product(itertools.product(values, repeat=len(fields)), repeat=many):
+                yield Heap(fields, [dict(zip(fields, one)) for one in cells], dict(zip(names, held)))
+
+
 def random_heap_parts(chance, fields, names, most):
     """The objects and names of a random heap."""
     many = chance.choice([0] + list(range(1, most + 1)) * 3)
@@ -222,5 +234,92 @@ def random_rows(chance, fields, variables, many):
     return make(0)
 
 
+def lively_program(chance, fields=("f",)):
+    """A random program of which many runs come to the end, and many put rows reach a reader."""
+    rows = [("new", "n")]
+    for reader in "rst"[:chance.randint(1, 3)]:
+        rows.append(("watch", reader, chance.choice("xyxyc"), chance.randint(0, 4)))
+    for _ in range(chance.randint(0, 4)):
+        rows.append(("copy", chance.choice("ccy"), chance.choice("xyc"), chance.choice(["freeze", "thaw", "thaw"]),
+                     chance.randint(0, 3)))
+    for _ in range(chance.randint(1, 4)):
+        rows.append(("put", chance.choice("xxyync"), chance.choice(fields), chance.choice("xyncm")))
+    for _ in range(chance.randint(0, 2)):
+        rows.append(("look", chance.choice("xynm"), chance.choice("xyc"), chance.choice(fields)))
+    return Program(["x", "y"], fields, rows[:1] + chance.sample(rows[1:], len(rows) - 1))
+
+
 def chance_of(seed):
     return random.Random(seed)
+
+
+def run_model(program, heap):
+    """The model of the run of a program on a heap, and what Run.end() tells."""
+    model = model_of(heap)
+    return model, model.run(program.rows())
+
+
+def reached_pairs(model):
+    """What Run.reached() tells."""
+    return sorted(set(model.reached))
+
+
+def normal_facts(fields, names, starts):
+    """What names and start values hold, with new labels in the order of the meeting, as tuples."""
+    labels = []
+
+    def meet(held):
+        if held is not None and held not in labels:
+            labels.append(held)
+
+    for name in sorted(names):
+        meet(names[name])
+    for label in labels:
+        for field in fields:
+            meet(starts.get((label, field)))
+    new = {label: number for number, label in enumerate(labels)}
+    new[None] = None
+    return in_order(fields, {name: new[held] for name, held in names.items()},
+                    {(new[label], field): new[held] for (label, field), held in starts.items()})
+
+
+def in_order(fields, names, edges):
+    """Names and edges as tuples, in the order in which facts go through them."""
+    places = {field: at for at, field in enumerate(fields)}
+    told = [(label, places[field], held) for (label, field), held in edges.items()]
+    return tuple(sorted(names.items(), key=lambda item: item[0])), tuple(sorted(told, key=lambda item: item[:2]))
+
+
+def facts_of_run(program, heap):
+    """The facts of the run on the heap, as normal_facts() gives them."""
+    model, _ = run_model(program, heap)
+    objects = heap.objects()
+    return normal_facts(heap.fields, heap.names(), {(n, f): objects[n][f] for n, f in model.looks})
+
+
+def facts_key(facts):
+    """Facts of the package, as normal_facts() gives them."""
+    return in_order(facts.fields, facts.names(), facts.edges())
+
+
+def heap_of(fields, names, starts, many):
+    """The heap of so many objects with these start values, all others None."""
+    return Heap(fields, [{field: starts.get((number, field)) for field in fields} for number in range(many)], names)
+
+
+def plain_choices(program, names=None, starts=None, many=0):
+    """The pairs (names, starts) of all stories: one value after the other is chosen, and all is run anew for each."""
+    names, starts = names or {}, starts or {}
+    values = [None] + list(range(many + 1))
+    left = [name for name in program.inputs if name not in names]
+    if left:
+        for value in values:
+            yield from plain_choices(program, {**names, left[0]: value}, starts, many + (value == many))
+        return
+    model, _ = run_model(program, heap_of(program.fields, names, starts, many))
+    fresh = [start for start in model.looks if start not in starts]
+    if not fresh:
+        yield names, starts
+        return
+    for value in values:
+        yield from plain_choices(program, names, {**starts, fresh[0]: value}, many + (value == many))

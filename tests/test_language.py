@@ -44,6 +44,9 @@ INTERFACE = {
     "live": {"Live": "__init__ do duplicate watch value is_same made reached behind trial attempt __getitem__ "
                      "__setitem__"},
     "facts": {"Facts": "__init__ names edges heap told __eq__ __contains__ __len__"},
+    "stories": {"stories": "", "story_of": ""},
+    "reaches": {"never": "", "witness": "", "refusals": "", "hollows": "", "is_listed": ""},
+    "depths": {"is_safe": "", "least_depths": "", "needless": ""},
 }
 
 

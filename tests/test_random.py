@@ -3,7 +3,7 @@
 import itertools
 import unittest
 
-from oracle import chance_of, model_of, random_heap_parts, random_plain_row, random_rows
+from oracle import all_heaps, chance_of, model_of, random_heap_parts, random_plain_row, random_rows
 from thawedwrites.errors import Hollow, Refused, RunError
 from thawedwrites.facts import Facts
 from thawedwrites.heaps import Heap
@@ -12,15 +12,6 @@ from thawedwrites.programs import Program
 from thawedwrites.runs import Run
 
 WORDS = {Hollow: "hollow", Refused: "refused"}
-
-
-def all_heaps(fields, names, most):
-    """All heaps with at most so many objects."""
-    for many in range(most + 1):
-        values = [None] + list(range(many))
-        for held in itertools.product(values, repeat=len(names)):
-            for cells in itertools.product(itertools.product(values, repeat=len(fields)), repeat=many):
-                yield Heap(fields, [dict(zip(fields, one)) for one in cells], dict(zip(names, held)))
 
 
 def fits_somehow(heap, fields, names, edges):

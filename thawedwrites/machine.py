@@ -8,23 +8,33 @@ MOST_STARTS = 100
 
 
 class Machine:
-    """Start objects have their numbers in the heap; own objects are numbered behind them."""
+    """Start objects have their numbers in the heap; own objects are numbered behind them.
+
+    A field that comes from a start value has a source, a pair (start value, layers). Each layer (copy, left) says
+    that the copy with this number puts a clone in the place of what the start value is, if that is an object, with
+    so many more layers of clones behind it; the layers come in the order of the copies.
+    """
 
     def __init__(self, heap):
         self.fields = heap.fields
         self._starts = len(heap)
         self._variables = heap.names()
-        # For each object: what its fields hold, which start values that comes from, whether it is frozen.
-        self._cells = heap.objects()
-        self._sources = [{field: (number, field) for field in heap.fields} for number in range(len(heap))]
-        self._frozen = [False] * len(heap)
+        # For each object: what its fields hold, their sources, whether it is frozen. The dicts of the fields are
+        # not changed but exchanged, because pictures of earlier moments share them.
+        self._cells = dict(enumerate(heap.objects()))
+        self._sources = {number: {field: ((number, field), ()) for field in heap.fields} for number in range(len(heap))}
+        self._frozen = {number: False for number in range(len(heap))}
         self._readers = {}
         # A dict because it keeps the order of the first looks.
         self._looks = {}
+        self._copies = 0
         self._puts = 0
         self._reached = []
         # What readers look at, by their object and depth, as far as no put has changed it.
         self._views = {}
+        # What is kept for searches, or None while nothing is.
+        self._kept_copies = None
+        self._kept_puts = None
         # What take_back() needs, or None while nothing is to be taken back.
         self._log = None
         self._before = None
@@ -52,6 +62,10 @@ class Machine:
     def made(self):
         """How many own objects there are."""
         return len(self._cells) - self._starts
+
+    def starts(self):
+        """How many start objects there are."""
+        return self._starts
 
     def looks(self):
         """The start values that were looked at, in the order of the first looks."""
@@ -88,10 +102,23 @@ class Machine:
             self._write(self._variables, row[1], self._copy(self.held(row[2]), row[3] == "freeze", row[4]))
         return "done"
 
+    def remember(self):
+        """From here on what copies and put rows find is kept for searches."""
+        self._kept_copies = {}
+        self._kept_puts = []
+
+    def copy_pictures(self):
+        """For the number of each copy that was kept, the picture ahead of it: what fields hold and their sources."""
+        return dict(self._kept_copies)
+
+    def put_moments(self):
+        """For each put row that was kept: the written object, the readers and the picture ahead of it."""
+        return list(self._kept_puts)
+
     def begin(self):
         """From here on what is done can be taken back."""
         self._log = []
-        self._before = (len(self._cells), len(self._reached), self._puts, self._views)
+        self._before = (len(self._reached), self._copies, self._puts, self._views)
         # A new dict, so that the views of before stay as they are.
         self._views = {key: view for key, view in self._views.items()}
 
@@ -108,8 +135,7 @@ class Machine:
             else:
                 del table[key]
         self._log = None
-        many, reached, self._puts, self._views = self._before
-        del self._cells[many:], self._sources[many:], self._frozen[many:]
+        reached, self._copies, self._puts, self._views = self._before
         del self._reached[reached:]
 
     def _write(self, table, key, value):
@@ -124,7 +150,7 @@ class Machine:
             return "hollow"
         source = self._sources[number][field]
         if source is not None:
-            self._write(self._looks, source, True)
+            self._write(self._looks, source[0], True)
         self._write(self._variables, x, self._cells[number][field])
         return "done"
 
@@ -134,13 +160,18 @@ class Machine:
             return "hollow"
         if self._frozen[number]:
             return "refused"
+        if self._kept_puts is not None:
+            self._kept_puts.append((number, dict(self._readers), self._picture()))
         self._reach(number)
-        self._write(self._cells[number], field, self.held(y))
-        self._write(self._sources[number], field, None)
+        self._write(self._cells, number, {**self._cells[number], field: self.held(y)})
+        self._write(self._sources, number, {**self._sources[number], field: None})
         # A write changes only the views that contain the written object.
         self._views = {key: view for key, view in self._views.items() if number not in view}
         self._puts += 1
         return "done"
+
+    def _picture(self):
+        return dict(self._cells), dict(self._sources)
 
     def _reach(self, number):
         """Notes the readers that look at the object as reached by the put row that is being done."""
@@ -159,32 +190,41 @@ class Machine:
         """The copy of the origin, an object or None; objects nearer than the depth are copied."""
         if origin is None or depth == 0:
             return origin
-        first = self._clone(origin, frozen)
+        if self._kept_copies is not None:
+            self._kept_copies[self._copies] = self._picture()
+        first = self._clone(origin, frozen, depth - 1)
         layer = [first]
-        for _ in range(depth - 1):
-            layer = self._clone_behind(layer, frozen)
+        for left in range(depth - 2, -1, -1):
+            layer = self._clone_behind(layer, frozen, left)
+        self._copies += 1
         return first
 
-    def _clone_behind(self, layer, frozen):
+    def _clone_behind(self, layer, frozen, left):
         """Lets the clones of the layer hold clones of what they hold, and returns these."""
         further = []
         for number in layer:
             cells = self._cells[number]
             for field in self.fields:
                 if cells[field] is not None:
-                    cells[field] = self._clone(cells[field], frozen)
+                    cells[field] = self._clone(cells[field], frozen, left)
                     further.append(cells[field])
         return further
 
-    def _clone(self, number, frozen):
-        return self._make(dict(self._cells[number]), dict(self._sources[number]), frozen)
+    def _clone(self, number, frozen, left):
+        """Makes a clone with so many layers of clones behind it, as yet without these."""
+        added = ((self._copies, left - 1),) if left > 0 else ()
+        sources = self._sources[number]
+        told = {field: None if sources[field] is None else (sources[field][0], sources[field][1] + added)
+                for field in self.fields}
+        return self._make(dict(self._cells[number]), told, frozen)
 
     def _make(self, cells, sources, frozen):
         """Makes an own object and returns its number."""
-        self._cells.append(cells)
-        self._sources.append(sources)
-        self._frozen.append(frozen)
-        return len(self._cells) - 1
+        number = len(self._cells)
+        self._write(self._cells, number, cells)
+        self._write(self._sources, number, sources)
+        self._write(self._frozen, number, frozen)
+        return number
 
     def _nothing(self):
         return {field: None for field in self.fields}

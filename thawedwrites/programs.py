@@ -1,9 +1,9 @@
 """Programs: rows over variables, with inputs, fields and outputs."""
 
 from thawedwrites.errors import InvalidArgument, InvalidProgram
-from thawedwrites.rows import copied_row, copied_rows, has_form, has_names, inner_rows, is_depth
+from thawedwrites.rows import copied_row, copied_rows, has_form, has_names, inner_rows, is_depth, is_place
 from thawedwrites.rows import placed_rows, row_variables, rows_with_depths
-from thawedwrites.words import are_fields, are_words, is_integer
+from thawedwrites.words import are_fields, are_words
 
 MOST_INPUTS = 3
 MOST_OUTPUTS = 3
@@ -55,10 +55,7 @@ class Program:
 
     def row(self, place):
         """The row at the place."""
-        # True is equal to 1 as a key, so the table alone does not tell them apart.
-        if not isinstance(place, tuple) or not all([is_integer(part) for part in place]):
-            raise InvalidArgument("place")
-        if place not in self._table:
+        if not is_place(place) or place not in self._table:
             raise InvalidArgument("place")
         return copied_row(self._table[place])
 

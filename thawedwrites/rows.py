@@ -1,6 +1,6 @@
 """The rows of a program: their forms, their parts and the rows inside them."""
 
-from thawedwrites.words import is_between, is_one_of, is_word
+from thawedwrites.words import is_between, is_integer, is_one_of, is_word
 
 # What stands behind the first item of each kind of row.
 FORMS = {
@@ -49,6 +49,11 @@ def is_right(part, role, fields):
 def is_depth(value):
     """True if the value may be the depth of a copy or watch row."""
     return is_between(value, 0, MOST_DEPTH)
+
+
+def is_place(value):
+    """True if the value is a tuple of integers; True is equal to 1, but no place has it."""
+    return isinstance(value, tuple) and all([is_integer(part) for part in value])
 
 
 def row_variables(row):

@@ -3,7 +3,7 @@
 from thawedwrites.errors import InvalidArgument
 from thawedwrites.heaps import Heap
 from thawedwrites.machine import MOST_STARTS, Machine
-from thawedwrites.rows import branches, placed_rows
+from thawedwrites.walks import Walk
 from thawedwrites.words import is_word
 
 
@@ -13,19 +13,17 @@ class Run:
     def __init__(self, program, heap):
         if not fits(program, heap):
             raise InvalidArgument("heap")
-        self._machine = Machine(heap)
         self._variables = program.variables()
-        # The places of the put rows that were done, in order.
-        self._written = []
-        self._end = self._do_rows(program.rows(), ())
+        self._machine = Machine(heap)
+        self._walk = Walk(program.rows(), self._machine)
 
     def end(self):
         """The word that tells how the run ended, and the place of the row where it ended, or None."""
-        return self._end
+        return self._walk.ending
 
     def reached(self):
         """The ascending pairs (place, reader): the put row at the place reached the reader."""
-        return sorted([(self._written[put], reader) for put, reader in self._machine.reached()])
+        return self._walk.pairs()
 
     def made(self):
         """How many own objects were made."""
@@ -44,33 +42,6 @@ class Run:
     def behind(self):
         """The heap at the end, in normal form, with the program's variables as its names."""
         return self._machine.behind(self._variables)
-
-    def _do_rows(self, rows, place):
-        """Does the rows behind the place and returns what end() tells."""
-        for here, row in placed_rows(rows, place):
-            word, where = self._do_row(row, here)
-            if word != "done":
-                return word, where
-        return "done", None
-
-    def _do_row(self, row, place):
-        lists = branches(row)
-        if lists:
-            branch = 0 if self._is_so(row) else 1
-            return self._do_rows(lists[branch], place + (branch,))
-        word = self._machine.do(row)
-        if word != "done":
-            return word, place
-        if row[0] == "put":
-            self._written.append(place)
-        return word, None
-
-    def _is_so(self, row):
-        """True if the first rows of a same or empty row are to be run."""
-        held = self._machine.held(row[1])
-        if row[0] == "same":
-            return held == self._machine.held(row[2])
-        return held is None
 
 
 def fits(program, heap):
