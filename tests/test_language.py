@@ -47,6 +47,10 @@ INTERFACE = {
     "stories": {"stories": "", "story_of": ""},
     "reaches": {"never": "", "witness": "", "refusals": "", "hollows": "", "is_listed": ""},
     "depths": {"is_safe": "", "least_depths": "", "needless": ""},
+    "alike": {"ends_alike": ""},
+    "most": {"most_made": "", "most_heap": ""},
+    "texts": {"program_text": "", "heap_text": "", "read_program": "", "read_heap": ""},
+    "desk": {"Desk": "__init__ current stories never insert delete undo redo turns __getitem__ __setitem__ __call__"},
 }
 
 

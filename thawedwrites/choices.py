@@ -8,6 +8,8 @@ from thawedwrites.walks import Walk
 
 # The most stories of a program.
 MOST_STORIES = 2000
+# Objects that are not met have the numbers from here on downwards.
+UNMET = -1
 
 
 class Choice:
@@ -32,14 +34,18 @@ class Choice:
         return self.heap_with({})
 
     def heap_with(self, settings):
-        """The heap with settings for other start values; objects that are not met have the numbers -1, -2 and so on."""
+        """The heap with settings for other start values; objects not met have numbers from UNMET on."""
         starts = {**self._starts}
         for (number, field), value in settings.items():
             starts[(self._number(number), field)] = self._number(value)
-        # Each setting takes at most one object that is not met.
-        objects = [{field: starts.get((number, field)) for field in self.fields}
-                   for number in range(self._many + len(settings))]
+        many = self._many - min([0] + list(settings.values()))
+        objects = [{field: starts.get((number, field)) for field in self.fields} for number in range(many)]
         return Heap(self.fields, objects, self._names)
+
+    def full_heap(self):
+        """The heap in which all other start values are one object that is not met, also those of this object."""
+        starts = [(number, field) for number in [UNMET] + list(range(self._many)) for field in self.fields]
+        return self.heap_with({start: UNMET for start in starts if not self.is_chosen(start)})
 
     def with_name(self, name):
         """The choices behind this one of what the name holds, in their order."""
@@ -61,7 +67,7 @@ class Choice:
         return list(range(self._many + 1))
 
     def _number(self, value):
-        return value if value >= 0 else self._many - 1 - value
+        return value if value >= 0 else self._many + UNMET - value
 
     def _many_with(self, value):
         return self._many + 1 if value == self._many else self._many

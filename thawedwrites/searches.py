@@ -1,11 +1,11 @@
 """Searches: whether a put row can reach a reader on some heap that fits what is chosen of it.
 
 A node is a pair (number, layers): the object with this number, or, where there are layers, its clone in the last
-layer, of its clone in the layer ahead, and so on (see Machine). Objects that are not met have numbers below 0.
+layer, of its clone in the layer ahead, and so on (see Machine). Objects that are not met have the number UNMET and
+those below it.
 """
 
-# Stands for every object that is not met, where it does not matter which one it is.
-UNMET = -1
+from thawedwrites.choices import UNMET
 
 
 class Search:
