@@ -38,7 +38,7 @@ NINE = [
     ("empty", "a", [("copy", "a", "b", "thaw", 4)], []),
 ]
 
-# Rows of which a program with the inputs x, y and z and the fields f and g has just so many stories; see three_inputs().
+# Rows of which a program with the inputs x, y and z and the fields f and g has just so many stories.
 ROWS_2000 = [("empty", "x",
               [("empty", "y", [], [("empty", "z", [("look", "b", "y", "f"), ("look", "c", "y", "g"),
                                                    ("look", "c", "b", "f")],

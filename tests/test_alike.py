@@ -64,7 +64,8 @@ class AlikeTest(Checks, unittest.TestCase):
         self.assert_alike(base, program(BASE[:2] + BASE[3:], outputs))
         last = BASE[3]
         self.assert_alike(base, program(BASE[:3] + [("empty", "y", [last], [last])], outputs))
-        self.assert_alike(base, program([("copy", "x", "x", "freeze", 0)] + BASE + [("copy", "b", "b", "thaw", 0)], outputs))
+        self.assert_alike(base, program([("copy", "x", "x", "freeze", 0)] + BASE + [("copy", "b", "b", "thaw", 0)],
+                                        outputs))
         # What is made in another order, or beside it, has other numbers but is alike.
         self.assert_alike(base, program([("new", "b"), ("none", "b")] + BASE, outputs))
 
@@ -83,7 +84,8 @@ class AlikeTest(Checks, unittest.TestCase):
 
     def test_a_start_object(self):
         self.assert_unlike(program([("move", "o", "x")]), program([("copy", "o", "x", "thaw", 1)]))
-        self.assert_unlike(program([("empty", "x", [], [("new", "o")])]), program([("empty", "x", [], [("move", "o", "x")])]))
+        self.assert_unlike(program([("empty", "x", [], [("new", "o")])]), program([("empty", "x", [], [("move", "o",
+                                                                                                        "x")])]))
 
     def test_the_same_start_object(self):
         self.assert_unlike(program([("move", "o", "x")]), program([("move", "o", "y")]))
@@ -95,7 +97,8 @@ class AlikeTest(Checks, unittest.TestCase):
 
     def test_frozen(self):
         for depth in range(1, 5):
-            self.assert_unlike(program([("copy", "o", "x", "thaw", depth)]), program([("copy", "o", "x", "freeze", depth)]))
+            self.assert_unlike(program([("copy", "o", "x", "thaw", depth)]), program([("copy", "o", "x", "freeze",
+                                                                                       depth)]))
         self.assert_alike(program([("copy", "o", "x", "thaw", 0)]), program([("copy", "o", "x", "freeze", 0)]))
         self.assert_alike(program([("copy", "o", "x", "thaw", 1)]), program([("copy", "o", "x", "thaw", 2)]))
 
@@ -108,12 +111,14 @@ class AlikeTest(Checks, unittest.TestCase):
         three = ("o", "p", "q")
         rows = [("new", "o"), ("new", "p")]
         self.assert_unlike(program(rows + [("move", "q", "o")], three), program(rows + [("move", "q", "p")], three))
-        self.assert_alike(program(rows + [("move", "q", "o")], three), program(rows[::-1] + [("move", "q", "o")], three))
+        self.assert_alike(program(rows + [("move", "q", "o")], three), program(rows[::-1] + [("move", "q", "o")],
+                                                                               three))
 
     def test_outputs_are_compared_in_order(self):
         rows = [("new", "a"), ("copy", "b", "a", "freeze", 1)]
         self.assert_unlike(program(rows, ("a", "b")), program(rows, ("b", "a")))
-        self.assert_alike(program(rows, ("a", "b")), program([("new", "b"), ("copy", "a", "b", "freeze", 1)], ("b", "a")))
+        self.assert_alike(program(rows, ("a", "b")), program([("new", "b"), ("copy", "a", "b", "freeze", 1)], ("b",
+                                                                                                               "a")))
 
     def test_other_variables_readers_and_fields_are_not_compared(self):
         self.assert_alike(program([], ("x",)), program([("empty", "x", [], [("put", "x", "f", "y")])], ("x",)))
@@ -134,9 +139,11 @@ class AlikeTest(Checks, unittest.TestCase):
         one = program([("empty", "x", [], [("look", "o", "x", "f")])], fields=("f", "g"))
         other = program([("empty", "x", [], [("look", "o", "x", "g")])], fields=("f", "g"))
         self.assert_unlike(one, other)
-        both = [("empty", "x", [], [("look", "a", "x", "f"), ("look", "b", "x", "g"), ("same", "a", "b", [("move", "o", "a")],
+        both = [("empty", "x", [], [("look", "a", "x", "f"), ("look", "b", "x", "g"), ("same", "a", "b", [("move", "o",
+                                                                                                           "a")],
                                                                                       [])])]
-        turned = [("empty", "x", [], [("look", "b", "x", "g"), ("look", "a", "x", "f"), ("same", "b", "a", [("move", "o", "b")],
+        turned = [("empty", "x", [], [("look", "b", "x", "g"), ("look", "a", "x", "f"), ("same", "b", "a", [("move",
+                                                                                                             "o", "b")],
                                                                                         [])])]
         self.assert_alike(program(both, fields=("f", "g")), program(turned, fields=("f", "g")))
 

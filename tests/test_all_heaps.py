@@ -17,7 +17,8 @@ ONE = [
      ("put", "x", "f", "x")],
     [("copy", "c", "x", "thaw", 2), ("watch", "r", "c", 3), ("put", "x", "f", "c"), ("look", "y", "c", "f"),
      ("put", "y", "f", "x"), ("put", "x", "f", "x")],
-    [("new", "n"), ("look", "y", "x", "f"), ("put", "x", "f", "n"), ("copy", "c", "y", "thaw", 2), ("put", "x", "f", "m"),
+    [("new", "n"), ("look", "y", "x", "f"), ("put", "x", "f", "n"), ("copy", "c", "y", "thaw", 2), ("put", "x", "f",
+                                                                                                    "m"),
      ("watch", "r", "c", 3), ("put", "n", "f", "n")],
     [("watch", "r", "x", 3), ("empty", "x", [("new", "x")], [("look", "y", "x", "f")]), ("watch", "s", "x", 2),
      ("same", "x", "y", [("put", "y", "f", "y")], [("put", "x", "f", "y")]), ("put", "x", "f", "x")],
@@ -34,7 +35,8 @@ TWO = [
      ("look", "x", "y", "f"), ("put", "x", "f", "y")],
 ]
 THREE = [
-    [("new", "n"), ("put", "z", "f", "n"), ("copy", "c", "x", "thaw", 2), ("put", "z", "f", "m"), ("put", "y", "f", "c"),
+    [("new", "n"), ("put", "z", "f", "n"), ("copy", "c", "x", "thaw", 2), ("put", "z", "f", "m"), ("put", "y", "f",
+                                                                                                   "c"),
      ("watch", "r", "x", 4), ("put", "n", "f", "x")],
 ]
 
@@ -88,7 +90,7 @@ class AllHeapsTest(unittest.TestCase):
         lists = [program for program, _ in programs()] + [lively_program(chance_of(seed)) for seed in range(100)]
         for program in lists:
             for story, choice in zip(stories(program), all_choices([program])):
-                trace = Trace(program, choice)
+                trace = Trace(program.rows(), choice)
                 for place, reader in story[4]:
                     heap = trace.witness(place, reader)
                     self.assertIn(heap, story[0])

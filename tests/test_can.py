@@ -31,7 +31,8 @@ class CanTest(Checks, unittest.TestCase):
 
     def test_a_way_of_told_fields_is_sure(self):
         for depth in range(5):
-            rows = [("watch", "r", "x", depth), ("look", "y", "x", "g"), ("look", "y", "y", "f"), ("put", "y", "f", "x")]
+            rows = [("watch", "r", "x", depth), ("look", "y", "x", "g"), ("look", "y", "y", "f"), ("put", "y", "f",
+                                                                                                   "x")]
             pair = [((3,), "r")]
             edges = {(0, "g"): 1, (1, "f"): 2}
             can = pair if depth else []

@@ -58,7 +58,8 @@ class SafeTest(Checks, unittest.TestCase):
 
     def test_wrong_rows_of_depths(self):
         for program in (SHARING, STOPPING):
-            for depths in [[], [1, 1], [5], [-1], [None], [True], [False], [1.0], ["1"], [[1]], (1, 2), {0}, {1: 1}, "1",
+            for depths in [[], [1, 1], [5], [-1], [None], [True], [False], [1.0], ["1"], [[1]], (1, 2), {0}, {1: 1},
+                           "1",
                            range(1), iter([1]), b"\x01"] + ALL:
                 self.assert_argument_error("depths", is_safe, program, depths)
         for depths in [[1], [1, 2, 3], [1, 5], [5, 1], [1, True]]:
@@ -151,6 +152,20 @@ class LeastTest(Checks, unittest.TestCase):
         reaching = three_inputs(ROWS_2001, [("new", "a"), ("watch", "r", "a", 0), ("copy", "c", "a", "freeze", 1),
                                             ("put", "c", "f", "a")])
         self.assert_limit(2000, least_depths, reaching)
+
+
+    def test_only_the_rows_up_to_most_are_gone_through(self):
+        # Nothing goes on behind the put unless both copies are made.
+        program = three_inputs(ROWS_2001, [
+            ("new", "a"), ("copy", "b", "a", "freeze", 1), ("same", "a", "b", [("put", "c", "f", "a")], []),
+            ("copy", "a", "b", "thaw", 1), ("put", "a", "f", "a")])
+        self.assert_limit(2000, never, program)
+        self.assertEqual(least_depths(program, most=0), [(0, 0)])
+        self.assert_limit(2000, least_depths, program, most=1)
+        self.assertEqual([is_safe(program, depths) for depths in [(0, 0), (0, 1), (1, 0), [4, 0]]], [True] * 4)
+        self.assert_limit(2000, is_safe, program, (1, 1))
+        self.assert_limit(2000, needless, program)
+        self.assertEqual(needless(program.with_depths([1, 0])), [(1,), (3,)])
 
 
 class NeedlessTest(Checks, unittest.TestCase):

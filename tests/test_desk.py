@@ -109,7 +109,8 @@ class DeskTest(Checks, unittest.TestCase):
         desk.insert((0, 0, 1), ("none", "x"))
         desk.insert((0, 0, 0), ("move", "b", "a"))
         self.assert_rows(desk, [
-            ("empty", "x", [("move", "b", "a"), ("new", "b"), ("none", "x")], [("same", "a", "b", [], [("none", "b")])]),
+            ("empty", "x", [("move", "b", "a"), ("new", "b"), ("none", "x")], [("same", "a", "b", [], [("none",
+                                                                                                        "b")])]),
             ("new", "a"), ("none", "a")])
         self.assert_argument_error("place", Desk(program([])).insert, (1,), ("new", "a"))
 

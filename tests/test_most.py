@@ -43,7 +43,8 @@ class MostTest(Checks, unittest.TestCase):
         self.assert_most(4, rows)
         # The end of the chain holds x, and what x holds is open.
         self.assert_most(6, rows[:3] + [("put", "b", "f", "x")] + rows[3:])
-        self.assert_most(5, [("put", "x", "f", "n"), ("new", "a"), ("put", "a", "f", "x"), ("copy", "c", "a", "thaw", 4),
+        self.assert_most(5, [("put", "x", "f", "n"), ("new", "a"), ("put", "a", "f", "x"), ("copy", "c", "a", "thaw",
+                                                                                            4),
                              ("copy", "c", "a", "thaw", 2)])
 
     def test_a_copy_of_a_cycle(self):

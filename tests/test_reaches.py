@@ -113,7 +113,8 @@ class WitnessTest(Checks, unittest.TestCase):
         rows = [("watch", "r", "x", 1), ("put", "x", "f", "x"), ("empty", "x", [], [("put", "x", "f", "x")])]
         program = Program(["x"], ["f"], rows)
         self.assert_witness(program, (2, 1, 0), "r")
-        for place in [(), (0,), (2,), (3,), (-1,), [1], 1, (True,), (1.0,), ((1,),), (1, 0), (2, 0, 0), (2, 1), (2, 1, 1),
+        for place in [(), (0,), (2,), (3,), (-1,), [1], 1, (True,), (1.0,), ((1,),), (1, 0), (2, 0, 0), (2, 1), (2, 1,
+                                                                                                                 1),
                       (2, True, 0), (2, 1, False), (2, 1, 0, 0), [2, 1, 0], ("1",), (None,), ([1],)] + ALL:
             self.assert_argument_error("place", witness, program, place, "r")
             # The place comes first.
@@ -241,7 +242,8 @@ class ListedTest(Checks, unittest.TestCase):
         for other in [pairs[::-1], pairs[1:] + pairs[:1], pairs[1:], pairs + pairs[-1:], tuple(pairs), [],
                       [list(pair) for pair in pairs], [([2], "r")] + pairs[1:], [((2.0,), "r")] + pairs[1:],
                       [("r", (2,))] + pairs[1:], [((2,), "r", "r")] + pairs[1:], [((2,), b"r")] + pairs[1:],
-                      [((2,),)] + pairs[1:], [None] + pairs[1:], [((2,), ["r"])] + pairs[1:], {pair: 1 for pair in pairs},
+                      [((2,),)] + pairs[1:], [None] + pairs[1:], [((2,), ["r"])] + pairs[1:],
+                      {pair: 1 for pair in pairs},
                       [((2, 0), "r")] + pairs[1:]]:
             self.assert_not_listed(program, 1, told[1][:3] + (other, told[1][4]))
             self.assert_not_listed(program, 1, told[1][:4] + (other,))
@@ -253,7 +255,8 @@ class ListedTest(Checks, unittest.TestCase):
 
     def test_a_list_turned_into_something_else(self):
         told = stories(ALIAS)
-        for value in [tuple(told), {at: story for at, story in enumerate(told)}, [told], iter(told), told[0], [None] * 5,
+        for value in [tuple(told), {at: story for at, story in enumerate(told)}, [told], iter(told), told[0],
+                      [None] * 5,
                       ALIAS, Heap(["f"], [], {}), Facts(["f"], {"x": 0}, {})] + ALL:
             self.assertIs(is_listed(ALIAS, value), False)
 

@@ -104,7 +104,8 @@ class ProgramTextTest(Checks, unittest.TestCase):
     def test_words_of_the_text_itself(self):
         for one in TAKEN:
             for other in TAKEN:
-                rows = [("move", one, other), ("look", one, other, one), ("put", other, one, one), ("watch", one, other, 0),
+                rows = [("move", one, other), ("look", one, other, one), ("put", other, one, one), ("watch", one,
+                                                                                                    other, 0),
                         ("copy", one, other, "thaw", 1), ("same", one, other, [("none", one)], [("new", other)]),
                         ("empty", one, [("new", one)], [])]
                 fields = [one, other] if one != other else [one]
@@ -149,8 +150,10 @@ class ReadProgramTest(Checks, unittest.TestCase):
     def test_the_first_three_lines(self):
         for at, head in enumerate(["inputs", "fields", "outputs"]):
             for line in ["", " ", "x", head[:-1], head + "s", head + " ", head + "  x", head + " x ", " " + head + " x",
-                         head + " x  y", head.upper() + " x", head + " X", head + " x1", head + " abcdefghi", head + " 1",
-                         head + " x,y", head + " x-", head + "x", "new x", "else", head + " " + "a" * 9 + " b", head + " _"]:
+                         head + " x  y", head.upper() + " x", head + " X", head + " x1", head + " abcdefghi",
+                         head + " 1",
+                         head + " x,y", head + " x-", head + "x", "new x", "else", head + " " + "a" * 9 + " b",
+                         head + " _"]:
                 self.assert_wrong(at + 1, HEAD[:at] + [line] + HEAD[at + 1:])
                 self.assert_wrong(at + 1, HEAD[:at] + [line])
         self.assert_wrong(1, HEAD[::-1])
@@ -158,16 +161,20 @@ class ReadProgramTest(Checks, unittest.TestCase):
         self.assert_wrong(1, ["fields f", "inputs x", "outputs"])
 
     def test_row_lines_without_a_right_form(self):
-        for line in ["", " ", "  ", "row", "x", "News x", "NEW x", "new", "new ", "new x ", "new  x", "new x y", "new X",
-                     "new x1", "new 1", "new abcdefghi", "new x-", "else x", "else ", "els", "inputs x", "outputs", "same x",
+        for line in ["", " ", "  ", "row", "x", "News x", "NEW x", "new", "new ", "new x ", "new  x", "new x y",
+                     "new X",
+                     "new x1", "new 1", "new abcdefghi", "new x-", "else x", "else ", "els", "inputs x", "outputs",
+                     "same x",
                      "same x y z", "same", "empty", "empty x y", "move x", "move x y z", "none", "none x y", "look x y",
                      "look x y f g", "put x f", "put x f y z", "copy x y freeze", "copy x y 1", "copy x y freeze 1 2",
-                     "watch r x", "watch r x 1 1", "watch r x x", "watch 1 x 1", "copy x y 1 freeze", "new x,y", "new\\x",
+                     "watch r x", "watch r x 1 1", "watch r x x", "watch 1 x 1", "copy x y 1 freeze", "new x,y",
+                     "new\\x",
                      "same x y else", "put x f none 1", "object 1", "name x 1", "new 'x'", "Else"]:
             self.assert_wrong_row(0, [line])
 
     def test_depths(self):
-        for word in ["", "00", "01", "0001", "1000", "9999", "1234", "-1", "+1", "1.0", "1a", "a", "x1", "freeze", "012", "000",
+        for word in ["", "00", "01", "0001", "1000", "9999", "1234", "-1", "+1", "1.0", "1a", "a", "x1", "freeze",
+                     "012", "000",
                      "1 ", " 1", "0x1", "1_0"]:
             self.assert_wrong_row(0, ["copy x y freeze " + word])
             self.assert_wrong_row(0, ["watch r x " + word])
@@ -200,9 +207,11 @@ class ReadProgramTest(Checks, unittest.TestCase):
         self.assert_wrong(9, HEAD + deep + ["      else", "        new x", "    else", "  else", "else"])
 
     def test_the_second_rows_end_where_the_indent_does(self):
-        rows = [("empty", "x", [("same", "x", "y", [], [("new", "x")]), ("none", "x")], [("new", "y"), ("empty", "y", [], [])]),
+        rows = [("empty", "x", [("same", "x", "y", [], [("new", "x")]), ("none", "x")], [("new", "y"), ("empty", "y",
+                                                                                                        [], [])]),
                 ("empty", "x", [], [("empty", "x", [], [("new", "z")])]), ("none", "z")]
-        self.assert_rows(rows, ["empty x", "  same x y", "  else", "    new x", "  none x", "else", "  new y", "  empty y",
+        self.assert_rows(rows, ["empty x", "  same x y", "  else", "    new x", "  none x", "else", "  new y",
+                                "  empty y",
                                 "  else", "empty x", "else", "  empty x", "  else", "    new z", "none z"])
 
     def test_else(self):
@@ -249,9 +258,12 @@ class ReadProgramTest(Checks, unittest.TestCase):
         self.assertEqual((caught.exception.part, caught.exception.place), (part, place))
 
     def test_the_errors_of_programs(self):
-        for part, lines in [("inputs", ["inputs", "fields", "outputs"]), ("inputs", ["inputs x x", "fields f", "outputs"]),
-                            ("inputs", ["inputs a b c d", "fields f", "outputs"]), ("fields", ["inputs x", "fields", "outputs"]),
-                            ("fields", ["inputs x", "fields f f", "outputs"]), ("fields", ["inputs x", "fields f g h", "outputs"]),
+        for part, lines in [("inputs", ["inputs", "fields", "outputs"]), ("inputs", ["inputs x x", "fields f",
+                                                                                     "outputs"]),
+                            ("inputs", ["inputs a b c d", "fields f", "outputs"]), ("fields", ["inputs x", "fields",
+                                                                                               "outputs"]),
+                            ("fields", ["inputs x", "fields f f", "outputs"]), ("fields", ["inputs x", "fields f g h",
+                                                                                           "outputs"]),
                             ("outputs", ["inputs x", "fields f", "outputs a a"]),
                             ("outputs", ["inputs x", "fields f", "outputs a b c d"])]:
             self.assert_program_text_error(part, (), lines)
@@ -272,7 +284,8 @@ class ReadProgramTest(Checks, unittest.TestCase):
             for _ in range(chance.choice([1, 1, 2])):
                 at = chance.randrange(len(lines))
                 lines[at:at + 1] = chance.choice([
-                    [], [lines[at]] * 2, ["  " + lines[at]], [lines[at][2:]], [lines[at], "else"], [lines[at], "  else"],
+                    [], [lines[at]] * 2, ["  " + lines[at]], [lines[at][2:]], [lines[at], "else"], [lines[at],
+                                                                                                    "  else"],
                     [lines[at].replace("x", "")], [lines[at], "empty x"], [lines[at], "  empty x", "  else"],
                     [lines[at] + " x"], [" " + lines[at]], [lines[at], "    new x"]])
             if lines:
@@ -304,7 +317,8 @@ class HeapTextTest(Checks, unittest.TestCase):
         self.assert_text(Heap(["f"], [], {}), ["fields f"])
         self.assert_text(Heap(["g", "f"], [], {"b": None, "a": None}), ["fields g f", "name a none", "name b none"])
         self.assert_text(Heap(["f", "g"], two([(1, None), (None, 0), (2, 2)]), {"z": 2, "ab": 0, "a": None}),
-                         ["fields f g", "name a none", "name ab 0", "name z 2", "object 1 none", "object none 0", "object 2 2"])
+                         ["fields f g", "name a none", "name ab 0", "name z 2", "object 1 none", "object none 0",
+                          "object 2 2"])
         # The numbers are the heap's own, not those of the normal form.
         self.assert_text(Heap(["f"], [{"f": 1}, {"f": None}, {"f": 0}], {"a": 2}),
                          ["fields f", "name a 2", "object 1", "object none", "object 0"])
@@ -345,9 +359,12 @@ class HeapTextTest(Checks, unittest.TestCase):
             self.assert_wrong(1, [line, "name a none", "object none"])
 
     def test_lines_without_a_right_form(self):
-        for line in ["", " ", "x", "name", "name a", "name a ", "name  a 0", "name a 0 ", " name a 0", "name a 0 0", "name A 0",
-                     "name abcdefghi 0", "name 0 a", "name a b", "name a None", "name a x", "Name a 0", "names a 0", "object",
-                     "object ", "object 0 0", "object  0", "object 0 ", " object 0", "object None", "object x", "Object 0",
+        for line in ["", " ", "x", "name", "name a", "name a ", "name  a 0", "name a 0 ", " name a 0", "name a 0 0",
+                     "name A 0",
+                     "name abcdefghi 0", "name 0 a", "name a b", "name a None", "name a x", "Name a 0", "names a 0",
+                     "object",
+                     "object ", "object 0 0", "object  0", "object 0 ", " object 0", "object None", "object x",
+                     "Object 0",
                      "objects 0", "fields f", "else", "0", "none", "  object 0"]:
             for ahead in [[], ["name a 0"], ["name a 0", "name b none"]]:
                 lines = ["fields f"] + ahead
@@ -356,7 +373,8 @@ class HeapTextTest(Checks, unittest.TestCase):
                 self.assert_wrong(len(lines) + 2, lines + ["object 0", line])
 
     def test_numbers(self):
-        for word in ["00", "01", "000", "012", "1000", "0001", "-1", "+1", "1.0", "1a", "a1", "1_0", "0x1", "9999", "nones"]:
+        for word in ["00", "01", "000", "012", "1000", "0001", "-1", "+1", "1.0", "1a", "a1", "1_0", "0x1", "9999",
+                     "nones"]:
             self.assert_wrong(2, ["fields f", "name a " + word])
             self.assert_wrong(2, ["fields f", "object " + word])
             self.assert_wrong(2, ["fields f g", "object none " + word])

@@ -53,13 +53,16 @@ def calls():
     lists = [
         (stories, program()), (story_of, program(), heap()), (never, program()), (witness, program(), (3,), "r"),
         (refusals, program()), (hollows, program()), (is_listed, program(), stories(program())),
-        (is_safe, program(), [2]), (least_depths, program()), (needless, program()), (ends_alike, program(), program([])),
+        (is_safe, program(), [2]), (least_depths, program()), (needless, program()), (ends_alike, program(),
+                                                                                      program([])),
         (most_made, program()), (most_heap, program()), (program_text, program()), (heap_text, heap()),
         (read_program, program_text(program())), (read_heap, heap_text(heap())),
         (program().with_depths, [3]), (program().__or__, program([])), (Run, program(), heap()), (Live, heap()),
         (Live(heap()).trial, [("copy", "a", "x", "thaw", 2), ("put", "a", "f", "y"), ("look", "b", "n", "f")]),
-        (Live(heap()).attempt, [("copy", "a", "x", "thaw", 2), ("put", "a", "f", "y")]), (Live(heap()).behind, ["x", "z"]),
-        (Desk, program()), (Desk(program()), heap()), (Desk(program()).insert, (2, 0, 1), ("empty", "x", [("new", "y")], [])),
+        (Live(heap()).attempt, [("copy", "a", "x", "thaw", 2), ("put", "a", "f", "y")]), (Live(heap()).behind, ["x",
+                                                                                                                "z"]),
+        (Desk, program()), (Desk(program()), heap()), (Desk(program()).insert, (2, 0, 1), ("empty", "x", [("new",
+                                                                                                           "y")], [])),
         (Desk(program()).__setitem__, (2,), ("empty", "x", [("new", "y")], [])), (Desk(program()).delete, (2,)),
         (Heap, ["f"], [{"f": 0}], {"a": 0}), (Program, ["x"], ["f"], copy.deepcopy(ROWS)[:2]),
         (Facts, ["f"], {"x": 5}, {(5, "f"): 7}), (heap().at, "x", ["f", "g"]),
@@ -117,7 +120,8 @@ class WholeTest(Checks, unittest.TestCase):
         desk.delete((3,))
         live.do(("watch", "r", "x", 1))
         live.do(("put", "x", "f", "y"))
-        for function in [whole.rows, whole.places, whole.copies, whole.writes, whole.readers, whole.variables, start.objects,
+        for function in [whole.rows, whole.places, whole.copies, whole.writes, whole.readers, whole.variables,
+                         start.objects,
                          start.names, lambda: start.parts("x", 1), facts.names, facts.edges, live.reached,
                          lambda: live.trial([])[2], run.reached, run.looks, desk.stories, desk.turns,
                          lambda: stories(whole), lambda: stories(whole)[-1][3], lambda: stories(whole)[-1][4],
@@ -133,7 +137,8 @@ class WholeTest(Checks, unittest.TestCase):
         self.assertEqual((one, heap_text(one)), (other, heap_text(other)))
         self.assertEqual(one.normal().objects(), other.normal().objects())
         self.assertEqual(read_heap(heap_text(one)), other)
-        whole = Program(["b", "a"], ["f", "g"], [("watch", "r", "a", 1), ("look", "a", "b", "g"), ("put", "a", "f", "b")])
+        whole = Program(["b", "a"], ["f", "g"], [("watch", "r", "a", 1), ("look", "a", "b", "g"), ("put", "a", "f",
+                                                                                                   "b")])
         self.assertEqual(story_of(whole, one), story_of(whole, other))
         self.assertEqual(Run(whole, one).behind(), Run(whole, other).behind())
         facts = story_of(whole, one)[0]
@@ -203,7 +208,8 @@ class WholeTest(Checks, unittest.TestCase):
 
     def test_a_variable_a_field_and_a_reader_may_be_the_same_word(self):
         pair = [((1,), "f")]
-        self.assertEqual([story[1:] for story in stories(ONE_WORD)], [("hollow", (1,), [], []), ("done", None, pair, pair)])
+        self.assertEqual([story[1:] for story in stories(ONE_WORD)], [("hollow", (1,), [], []), ("done", None, pair,
+                                                                                                 pair)])
         self.assertIn(((1,), "f"), Run(ONE_WORD, witness(ONE_WORD, (1,), "f")).reached())
         self.assertEqual(read_program(program_text(ONE_WORD)), ONE_WORD)
         self.assertIs(ends_alike(ONE_WORD, ONE_WORD), None)

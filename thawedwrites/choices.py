@@ -35,9 +35,9 @@ class Choice:
 
     def heap_with(self, settings):
         """The heap with settings for other start values; objects not met have numbers from UNMET on."""
-        starts = {**self._starts}
-        for (number, field), value in settings.items():
-            starts[(self._number(number), field)] = self._number(value)
+        starts = {start: self._starts[start] for start in self._starts}
+        for (owner, word), value in settings.items():
+            starts[(self._number(owner), word)] = self._number(value)
         many = self._many - min([0] + list(settings.values()))
         objects = [{field: starts.get((number, field)) for field in self.fields} for number in range(many)]
         return Heap(self.fields, objects, self._names)
@@ -109,6 +109,7 @@ def new_looks(lists, choice):
     """The start values that are not chosen yet and are looked at if all of them are None, in order."""
     found = {}
     for rows in lists:
-        looks = Walk(rows, Machine(choice.heap())).machine.looks()
-        found.update({start: True for start in looks if not choice.is_chosen(start)})
+        for start in Walk(rows, Machine(choice.heap())).machine.looks():
+            if not choice.is_chosen(start):
+                found[start] = True
     return list(found)

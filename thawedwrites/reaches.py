@@ -20,8 +20,9 @@ def witness(program, place, reader):
         raise InvalidArgument("place")
     if not is_one_of(reader, [name for name, _ in program.readers()]):
         raise InvalidArgument("reader")
+    rows = program.rows()
     for choice in all_choices([program]):
-        heap = Trace(program, choice).witness(place, reader)
+        heap = Trace(rows, choice).witness(place, reader)
         if heap is not None:
             return heap
     return None

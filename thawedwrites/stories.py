@@ -9,7 +9,8 @@ from thawedwrites.traces import Trace
 
 def stories(program):
     """The list of all stories (facts, word, place, sure, can), in the order of choices."""
-    return [told_story(program, choice.facts(), choice) for choice in all_choices([program])]
+    rows = program.rows()
+    return [told_story(rows, choice.facts(), choice) for choice in all_choices([program])]
 
 
 def story_of(program, heap):
@@ -19,11 +20,11 @@ def story_of(program, heap):
     objects = heap.objects()
     starts = {(number, field): objects[number][field] for number, field in Run(program, heap).looks()}
     facts = Facts(heap.fields, heap.names(), starts)
-    return told_story(program, facts, choice_of(facts))
+    return told_story(program.rows(), facts, choice_of(facts))
 
 
-def told_story(program, facts, choice):
-    """The story with these facts; the choice tells the same."""
-    trace = Trace(program, choice)
+def told_story(rows, facts, choice):
+    """The story of the rows of a program with these facts; the choice tells the same."""
+    trace = Trace(rows, choice)
     word, place = trace.end()
     return facts, word, place, trace.sure(), trace.can()

@@ -6,13 +6,13 @@ from thawedwrites.walks import Walk
 
 
 class Trace:
-    """The runs of a program on the heaps that fit a choice of all that they look at."""
+    """The runs of the rows of a program on the heaps that fit a choice of all that they look at."""
 
-    def __init__(self, program, choice):
+    def __init__(self, rows, choice):
         self._choice = choice
         machine = Machine(choice.heap())
         machine.remember()
-        self._walk = Walk(program.rows(), machine)
+        self._walk = Walk(rows, machine)
         self._searches = {place: Search(machine, put, choice) for put, place in enumerate(self._walk.written)}
 
     def end(self):

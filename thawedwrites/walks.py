@@ -26,10 +26,9 @@ class Walk:
         return "done", None
 
     def _do_row(self, row, place):
-        lists = branches(row)
-        if lists:
+        if row[0] in ("same", "empty"):
             branch = 0 if self._is_so(row) else 1
-            return self._do_rows(lists[branch], place + (branch,))
+            return self._do_rows(branches(row)[branch], place + (branch,))
         word = self.machine.do(row)
         if word != "done":
             return word, place
