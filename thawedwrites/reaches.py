@@ -50,8 +50,8 @@ def is_listed(program, value):
         return False
     if not all([has_kinds(one) for one in value]):
         return False
-    keys = {story_key(one): True for one in value}
-    return len(keys) == len(told) and all([key in told for key in keys])
+    found = {story_key(one): True for one in value}
+    return len(found) == len(told) and all([key in told for key in found])
 
 
 def has_kinds(value):
