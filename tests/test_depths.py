@@ -22,6 +22,11 @@ THAWED = Program(["x"], ["f"], [
 # With a copy of depth 1 or more the put is refused and nothing is looked at.
 STOPPING = three_inputs(ROWS_2001, [("new", "a"), ("copy", "a", "a", "freeze", 1), ("put", "a", "f", "a")])
 FOUR = [("copy", "c", "x", "thaw", 1)] * 4
+# Readers look at all four copies, so deep that each copy that is not so deep shares x.f.f, the object that is written.
+DEEP_FOUR = Program(["x"], ["f", "g"], [("copy", name, "x", "thaw", 0) for name in "abcd"] + [
+    ("new", "n"), ("put", "n", "f", "a"), ("put", "n", "g", "b"),
+    ("watch", "r", "n", 3), ("watch", "s", "c", 2), ("watch", "t", "d", 2),
+    ("look", "a", "x", "f"), ("look", "a", "a", "f"), ("put", "a", "f", "x")])
 
 
 def safe_rows(program, most):
@@ -136,10 +141,24 @@ class LeastTest(Checks, unittest.TestCase):
                 self.assert_argument_error("most", least_depths, program, most=most)
 
     def test_more_than_400_rows_of_depths(self):
-        four = Program(["x"], ["f"], FOUR)
-        self.assert_limit(400, least_depths, four, most=4)
-        self.assertEqual(least_depths(four, most=3), [(0, 0, 0, 0)])
-        self.assertEqual(least_depths(Program(["x"], ["f"], FOUR[:3]), most=4), [(0, 0, 0)])
+        # Depths do not matter: there is no put at all, or one that reaches r wherever x holds an object.
+        for reaching, none in ([], [()]), ([("watch", "r", "x", 0), ("put", "x", "f", "x")], []):
+            for most in range(5):
+                self.assertEqual(least_depths(Program(["x"], ["f"], reaching), most=most), none)
+            for many in range(5):
+                program = Program(["x"], ["f"], reaching + FOUR[:many])
+                least = [(0,) * many for _ in none]
+                for most in range(5):
+                    if (most + 1) ** many > 400:
+                        self.assertEqual((many, most), (4, 4))
+                        self.assert_limit(400, least_depths, program, most=most)
+                    else:
+                        self.assertEqual(least_depths(program, most=most), least)
+        # With four copies there are 256 rows of depths up to 3, the last of which may be the only safe one.
+        self.assertEqual(least_depths(DEEP_FOUR, most=3), [(3, 3, 3, 3)])
+        self.assertEqual(least_depths(DEEP_FOUR, most=2), [])
+        self.assertEqual(least_depths(DEEP_FOUR, most=0), [])
+        self.assert_limit(400, least_depths, DEEP_FOUR, most=4)
         # It comes ahead of the limit of the stories.
         many = [("new", "a")] + [("copy", "a", "a", "freeze", 1)] * 4
         self.assert_limit(400, least_depths, three_inputs(ROWS_2001, many), most=4)
@@ -152,7 +171,6 @@ class LeastTest(Checks, unittest.TestCase):
         reaching = three_inputs(ROWS_2001, [("new", "a"), ("watch", "r", "a", 0), ("copy", "c", "a", "freeze", 1),
                                             ("put", "c", "f", "a")])
         self.assert_limit(2000, least_depths, reaching)
-
 
     def test_only_the_rows_up_to_most_are_gone_through(self):
         # Nothing goes on behind the put unless both copies are made.

@@ -54,6 +54,18 @@ INTERFACE = {
 }
 
 
+def wrong_powers(tree):
+    """The powers in the tree whose exponent is not a written number from 0 to 64."""
+    found = []
+    for node in ast.walk(tree):
+        if isinstance(node, (ast.BinOp, ast.AugAssign)) and isinstance(node.op, ast.Pow):
+            exponent = node.right if isinstance(node, ast.BinOp) else node.value
+            is_written = isinstance(exponent, ast.Constant) and type(exponent.value) is int
+            if not is_written or not 0 <= exponent.value <= 64:
+                found.append(node)
+    return found
+
+
 class LanguageTest(unittest.TestCase):
     def setUp(self):
         self.texts = {path: path.read_bytes().decode("ascii") for path in FILES}
@@ -101,6 +113,18 @@ class LanguageTest(unittest.TestCase):
                 self.refuse(path, node, "a value that is not allowed")
             if isinstance(node.value, str) and "%" in node.value:
                 self.refuse(path, node, "a string with a percent sign")
+
+    def test_each_power_has_a_written_exponent(self):
+        for path, tree in self.trees.items():
+            for node in wrong_powers(tree):
+                self.refuse(path, node, "a power without a written exponent from 0 to 64")
+
+    def test_which_powers_are_wrong(self):
+        for text in ("2 ** 0", "n ** 64", "(n + 1) ** 2", "n **= 3", "2 * n", "n *= k", "told(**more)", "{**more}"):
+            self.assertEqual(wrong_powers(ast.parse(text)), [], text)
+        for text in ("2 ** n", "(most + 1) ** many", "n **= k", "2 ** 65", "2 ** -1", "2 ** True", "n ** (1 + 1)",
+                     "n ** len(xs)", "[x ** y for x in xs]", "2 ** 2 ** 2", "n **= 65", "lambda n=2 ** K: n"):
+            self.assertEqual(len(wrong_powers(ast.parse(text))), 1, text)
 
     def test_module_level(self):
         for path, tree in self.trees.items():

@@ -17,10 +17,10 @@ def least_depths(program, *, most=2):
     """The ascending least safe rows of depths from 0 to most."""
     if not is_depth(most):
         raise InvalidArgument("most")
-    many = len(program.copies())
-    if (most + 1) ** many > MOST_DEPTHS:
+    rows = all_depths(len(program.copies()), most)
+    if len(rows) > MOST_DEPTHS:
         raise LimitExceeded(MOST_DEPTHS)
-    safe = [depths for depths in all_depths(many, most) if is_safe(program, depths)]
+    safe = [depths for depths in rows if is_safe(program, depths)]
     return [depths for depths in safe if not any([is_below(other, depths) for other in safe])]
 
 
