@@ -48,6 +48,13 @@ ROWS_2001 = [("empty", "x",
               [("look", "c", "z", "g"), ("look", "b", "z", "f")],
               [("look", "b", "x", "g"), ("look", "b", "z", "f"), ("look", "b", "x", "f"), ("look", "c", "z", "g")])]
 
+# Looks that are not hollow: a program with the inputs a, b and c, the fields f and g and four of them has 1,251 stories.
+GUARDED = [("empty", name, [], [("look", "v", name, field)]) for name, field in [("a", "f"), ("b", "f"), ("c", "f"),
+                                                                                ("a", "g")]]
+FIFTH = ("empty", "b", [], [("look", "v", "b", "g")])
+# The reader looks at a and at what is two fields away from it.
+READ = [("watch", "r", "a", 2), ("put", "b", "f", "c")]
+
 
 def three_inputs(rows, ahead=()):
     """The program with these rows; rows ahead that look at nothing do not change how many stories there are."""

@@ -4,11 +4,10 @@ import unittest
 
 from oracle import (all_heaps, chance_of, facts_key, facts_of_run, heap_of, lively_program, reached_pairs,
                     run_model)
-from thawedwrites.choices import all_choices
 from thawedwrites.programs import Program
 from thawedwrites.runs import Run
 from thawedwrites.stories import stories
-from thawedwrites.traces import Trace
+from thawedwrites.traces import all_traces
 
 ONE = [
     [("copy", "c", "x", "freeze", 1), ("watch", "r", "c", 1), ("look", "y", "x", "f"), ("put", "y", "f", "x")],
@@ -89,11 +88,11 @@ class AllHeapsTest(unittest.TestCase):
     def test_each_pair_that_can_be_is_reached_on_a_heap_that_fits_the_facts(self):
         lists = [program for program, _ in programs()] + [lively_program(chance_of(seed)) for seed in range(100)]
         for program in lists:
-            for story, choice in zip(stories(program), all_choices([program])):
-                trace = Trace(program.rows(), choice)
-                for place, reader in story[4]:
+            for trace in all_traces(program):
+                facts = trace.facts()
+                for place, reader in trace.can():
                     heap = trace.witness(place, reader)
-                    self.assertIn(heap, story[0])
+                    self.assertIn(heap, facts)
                     self.assertIn((place, reader), reached_pairs(run_model(program, heap)[0]))
                     self.assertIn((place, reader), Run(program, heap).reached())
 

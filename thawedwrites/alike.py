@@ -2,28 +2,26 @@
 
 from thawedwrites.choices import all_choices
 from thawedwrites.errors import InvalidArgument
-from thawedwrites.runs import Run
 
 
 def ends_alike(one, other):
     """None if the programs end alike for every heap that fits them, otherwise a heap for which they do not."""
     if one.inputs != other.inputs or one.fields != other.fields or len(one.outputs) != len(other.outputs):
         raise InvalidArgument("other")
-    # What is chosen are joint facts, so one heap stands for all that fit them.
-    for choice in all_choices([one, other]):
-        heap = choice.heap()
-        if told_end(one, heap) != told_end(other, heap):
-            return heap
-    return None
+    found = None
+    # What is chosen are joint facts, so one heap stands for all that fit them. All are gone through because of the limit.
+    for choice, (walk, further) in all_choices([one, other]):
+        if found is None and told_end(walk, one.outputs) != told_end(further, other.outputs):
+            found = choice.heap()
+    return found
 
 
-def told_end(program, heap):
-    """What two runs on the heap have in common exactly if they end alike."""
-    run = Run(program, heap)
-    word, _ = run.end()
+def told_end(walk, outputs):
+    """What two runs have in common exactly if they end alike."""
+    word, _ = walk.ending
     if word != "done":
         return word, []
-    values = [run.value(name) for name in program.outputs]
+    values = [walk.machine.value(walk.machine.held(name)) for name in outputs]
     return word, [told_value(value, values) for value in values]
 
 

@@ -18,16 +18,17 @@ class Facts:
             raise InvalidFacts("names")
         if not are_told_edges(edges, fields):
             raise InvalidFacts("edges")
-        numbers = label_numbers(fields, names, edges)
+        # An open field leads to no label, as if it held None.
+        numbers = new_numbers(names, lambda fresh: [edges.get((one, field)) for one in fresh for field in fields])
         if not all([label in numbers for label, _ in edges]):
             raise InvalidFacts("far")
         if len(numbers) > MOST_LABELS:
             raise InvalidFacts("many")
         self.fields = tuple(fields)
         self._names = {name: numbers.get(names[name]) for name in sorted(names)}
-        pairs = [(label, field) for label in numbers for field in fields]
-        self._edges = {(numbers[pair[0]], pair[1]): numbers.get(edges[pair]) for pair in pairs if pair in edges}
-        self._ways = first_ways(self._names, self._edges)
+        self._edges = {(numbers[label], field): numbers.get(edges[(label, field)])
+                       for label in numbers for field in fields if (label, field) in edges}
+        self._labels = list(numbers.values())
 
     def __contains__(self, value):
         if isinstance(value, Heap):
@@ -37,7 +38,7 @@ class Facts:
         return False
 
     def __len__(self):
-        return len(self._ways)
+        return len(self._labels)
 
     def __eq__(self, other):
         return (isinstance(other, Facts) and self.fields == other.fields and self._names == other._names
@@ -53,8 +54,7 @@ class Facts:
 
     def heap(self):
         """The heap of the told objects alone, in which open fields hold None."""
-        labels = list(range(len(self._ways)))
-        objects = [{field: self._edges.get((label, field)) for field in self.fields} for label in labels]
+        objects = [{field: self._edges.get((label, field)) for field in self.fields} for label in self._labels]
         return Heap(self.fields, objects, self._names)
 
     def told(self, name, path):
@@ -76,8 +76,8 @@ class Facts:
         """True if all that is told here is so where the names and fields hold this."""
         if sorted(names) != sorted(self._names):
             return False
-        chosen = chosen_objects(self._ways, names, edges)
-        if len(chosen) < len(self._ways) or len(set(chosen)) < len(chosen):
+        chosen = chosen_objects(first_ways(self._names, self._edges), names, edges)
+        if len(chosen) < len(self._labels) or len(set(chosen)) < len(chosen):
             return False
         if not all([names[name] == chosen_at(chosen, self._names[name]) for name in self._names]):
             return False
@@ -114,23 +114,15 @@ def is_label(value):
     return is_integer(value) and value >= 0
 
 
-def label_numbers(fields, names, edges):
-    """A dict from the reached labels to their numbers in normal form, in the order of these."""
-    held = list(names.values()) + list(edges.values())
-    # An open field leads to no label, as if it held None.
-    objects = {label: {field: edges.get((label, field)) for field in fields} for label in held}
-    return new_numbers(fields, objects, names)
-
-
 def first_ways(names, edges):
     """For each label, in order, what first leads to it: (None, name) or (an earlier label, field)."""
-    ways = {}
-    for name in sorted(names):
-        ways.setdefault(names[name], (None, name))
-    for pair, label in edges.items():
-        ways.setdefault(label, pair)
-    # In normal form the labels are met in their order.
-    return [way for label, way in ways.items() if label is not None]
+    ways = [(names[name], (None, name)) for name in sorted(names)] + [(edges[pair], pair) for pair in edges]
+    first = []
+    for label, way in ways:
+        # In normal form the labels are met in their order.
+        if label == len(first):
+            first.append(way)
+    return first
 
 
 def chosen_objects(ways, names, edges):

@@ -131,21 +131,24 @@ def near_numbers(fields, objects, start, depth):
 
 def normal_form(fields, objects, names):
     """The fields, objects and names of the normal form."""
-    numbers = new_numbers(fields, objects, names)
+    numbers = new_numbers(names, lambda fresh: [objects[one][field] for one in fresh for field in fields])
     # None has no new number, so get() leaves it None.
     renumbered = [{field: numbers.get(objects[old][field]) for field in fields} for old in numbers]
     return fields, renumbered, {name: numbers.get(names[name]) for name in names}
 
 
-def new_numbers(fields, objects, names):
-    """A dict from the old to the new numbers, in the order of the new ones."""
+def new_numbers(names, held_by):
+    """A dict from the old to the new numbers, in the order of the new ones.
+
+    The function held_by returns, for a list of old numbers, what the fields of these objects hold, in order.
+    """
     numbers = {}
-    edge = [names[name] for name in sorted(names)]
-    while edge:
+    met = [names[name] for name in sorted(names)]
+    while met:
         fresh = []
-        for number in edge:
+        for number in met:
             if number is not None and number not in numbers:
                 numbers[number] = len(numbers)
                 fresh.append(number)
-        edge = [objects[one][field] for one in fresh for field in fields]
+        met = held_by(fresh)
     return numbers

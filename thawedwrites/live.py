@@ -13,7 +13,7 @@ class Live:
     def __init__(self, heap):
         if not isinstance(heap, Heap) or len(heap) > MOST_STARTS:
             raise InvalidArgument("heap")
-        self._machine = Machine(heap)
+        self._machine = Machine(heap.fields, heap.objects(), heap.names())
 
     def __getitem__(self, key):
         if not is_key(key, self._machine.fields):

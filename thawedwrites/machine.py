@@ -12,18 +12,20 @@ class Machine:
 
     A field that comes from a start value has a source, a pair (start value, layers). Each layer (copy, left) says
     that the copy with this number puts a clone in the place of what the start value is, if that is an object, with
-    so many more layers of clones behind it; the layers come in the order of the copies.
+    so many more layers of clones behind it; the layers come in the order of the copies. Sources are kept only of
+    objects that were made or written; the others are told by source_of().
     """
 
-    def __init__(self, heap):
-        self.fields = heap.fields
-        self._starts = len(heap)
-        self._variables = heap.names()
-        # For each object: what its fields hold, their sources, whether it is frozen. The dicts of the fields are
-        # not changed but exchanged, because pictures of earlier moments share them.
-        self._cells = dict(enumerate(heap.objects()))
-        self._sources = {number: {field: ((number, field), ()) for field in heap.fields} for number in range(len(heap))}
-        self._frozen = {number: False for number in range(len(heap))}
+    def __init__(self, fields, objects, names):
+        self.fields = fields
+        self._starts = len(objects)
+        self._variables = dict(names)
+        # For each object what its fields hold. The dicts of the fields, and those of their sources, are not changed
+        # but exchanged, because pictures of earlier moments and other machines share them.
+        self._cells = dict(enumerate(objects))
+        self._sources = {}
+        # Whether an own object is frozen.
+        self._frozen = {}
         self._readers = {}
         # A dict because it keeps the order of the first looks.
         self._looks = {}
@@ -148,7 +150,7 @@ class Machine:
         number = self.held(y)
         if number is None:
             return "hollow"
-        source = self._sources[number][field]
+        source = source_of(self._sources, number, field)
         if source is not None:
             self._write(self._looks, source[0], True)
         self._write(self._variables, x, self._cells[number][field])
@@ -158,13 +160,13 @@ class Machine:
         number = self.held(x)
         if number is None:
             return "hollow"
-        if self._frozen[number]:
+        if self._frozen.get(number):
             return "refused"
         if self._kept_puts is not None:
             self._kept_puts.append((number, dict(self._readers), self._picture()))
         self._reach(number)
         self._write(self._cells, number, {**self._cells[number], field: self.held(y)})
-        self._write(self._sources, number, {**self._sources[number], field: None})
+        self._write(self._sources, number, {**self._sources_of(number), field: None})
         # A write changes only the views that contain the written object.
         self._views = {key: view for key, view in self._views.items() if number not in view}
         self._puts += 1
@@ -213,9 +215,8 @@ class Machine:
     def _clone(self, number, frozen, left):
         """Makes a clone with so many layers of clones behind it, as yet without these."""
         added = ((self._copies, left - 1),) if left > 0 else ()
-        sources = self._sources[number]
-        told = {field: None if sources[field] is None else (sources[field][0], sources[field][1] + added)
-                for field in self.fields}
+        told = {field: None if source is None else (source[0], source[1] + added)
+                for field, source in self._sources_of(number).items()}
         return self._make(dict(self._cells[number]), told, frozen)
 
     def _make(self, cells, sources, frozen):
@@ -226,5 +227,16 @@ class Machine:
         self._write(self._frozen, number, frozen)
         return number
 
+    def _sources_of(self, number):
+        """A new dict of the sources of the fields of the object."""
+        return {field: source_of(self._sources, number, field) for field in self.fields}
+
     def _nothing(self):
         return {field: None for field in self.fields}
+
+
+def source_of(sources, number, field):
+    """The source of the field of the object, or None; each start value is the source of its own field."""
+    if number in sources:
+        return sources[number][field]
+    return (number, field), ()

@@ -12,7 +12,7 @@ def most_made(program):
 def most_heap(program):
     """A heap that fits the program and whose run makes the most own objects."""
     best, most = None, -1
-    for choice in all_choices([program]):
+    for choice, _ in all_choices([program]):
         # No heap that fits the choice has more ways to follow, and the more ways, the more objects are copied.
         heap = choice.full_heap()
         made = Run(program, heap).made()

@@ -1,17 +1,20 @@
 """Questions about all heaps: what some heap that fits a program leads to, and what none does."""
 
-from thawedwrites.choices import all_choices
 from thawedwrites.errors import InvalidArgument
 from thawedwrites.facts import Facts
 from thawedwrites.rows import is_place
 from thawedwrites.stories import stories
-from thawedwrites.traces import Trace
+from thawedwrites.traces import all_traces
 from thawedwrites.words import is_one_of
 
 
 def never(program):
     """True if no write of the program can reach a reader."""
-    return not any([can for _, _, _, _, can in stories(program)])
+    reaching = False
+    # All are gone through, whatever the answer is, because of the limit; so in witness(), too.
+    for trace in all_traces(program):
+        reaching = reaching or len(trace.can()) > 0
+    return not reaching
 
 
 def witness(program, place, reader):
@@ -20,12 +23,11 @@ def witness(program, place, reader):
         raise InvalidArgument("place")
     if not is_one_of(reader, [name for name, _ in program.readers()]):
         raise InvalidArgument("reader")
-    rows = program.rows()
-    for choice in all_choices([program]):
-        heap = Trace(rows, choice).witness(place, reader)
-        if heap is not None:
-            return heap
-    return None
+    heap = None
+    for trace in all_traces(program):
+        if heap is None:
+            heap = trace.witness(place, reader)
+    return heap
 
 
 def refusals(program):
@@ -40,7 +42,8 @@ def hollows(program):
 
 def endings(program, told):
     """The ascending places at which a story of the program ends with the told word."""
-    return sorted({place for _, word, place, _, _ in stories(program) if word == told})
+    ends = [trace.end() for trace in all_traces(program)]
+    return sorted({place for word, place in ends if word == told})
 
 
 def is_listed(program, value):

@@ -86,6 +86,12 @@ def placed_rows(rows, place):
     return [(place + (index,), row) for index, row in enumerate(rows)]
 
 
+def steps_of(rows, place):
+    """The steps (place, row, inner) of a list of rows; inner has the steps of each list of rows inside the row."""
+    return [(here, row, [steps_of(inner, here + (branch,)) for branch, inner in enumerate(branches(row))])
+            for here, row in placed_rows(rows, place)]
+
+
 def inner_rows(row, place):
     """The pairs (place, row) of the rows directly inside the row at the place, ascending."""
     found = []

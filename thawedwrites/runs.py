@@ -3,6 +3,7 @@
 from thawedwrites.errors import InvalidArgument
 from thawedwrites.heaps import Heap
 from thawedwrites.machine import MOST_STARTS, Machine
+from thawedwrites.rows import steps_of
 from thawedwrites.walks import Walk
 from thawedwrites.words import is_word
 
@@ -14,8 +15,8 @@ class Run:
         if not fits(program, heap):
             raise InvalidArgument("heap")
         self._variables = program.variables()
-        self._machine = Machine(heap)
-        self._walk = Walk(program.rows(), self._machine)
+        self._machine = Machine(heap.fields, heap.objects(), heap.names())
+        self._walk = Walk(steps_of(program.rows(), ()), self._machine)
 
     def end(self):
         """The word that tells how the run ended, and the place of the row where it ended, or None."""

@@ -6,6 +6,7 @@ those below it.
 """
 
 from thawedwrites.choices import UNMET
+from thawedwrites.machine import source_of
 
 
 class Search:
@@ -71,7 +72,7 @@ class Search:
         if number < 0:
             return None, (number, field), ()
         cells, sources = picture
-        source = sources[number][field]
+        source = source_of(sources, number, field)
         if source is None or self._choice.is_chosen(source[0]):
             return cells[number][field], None, ()
         return None, source[0], source[1]

@@ -1,19 +1,24 @@
-"""Traces: how programs run on all heaps that fit a choice."""
+"""Traces: how a program runs on all heaps that fit a choice."""
 
-from thawedwrites.machine import Machine
+from thawedwrites.choices import all_choices
 from thawedwrites.searches import Search
-from thawedwrites.walks import Walk
 
 
 class Trace:
-    """The runs of the rows of a program on the heaps that fit a choice of all that they look at."""
+    """The runs of a program on the heaps that fit a choice of all that they look at."""
 
-    def __init__(self, rows, choice):
+    def __init__(self, choice, walk):
         self._choice = choice
-        machine = Machine(choice.heap())
-        machine.remember()
-        self._walk = Walk(rows, machine)
-        self._searches = {place: Search(machine, put, choice) for put, place in enumerate(self._walk.written)}
+        # The one in which all other start values are None.
+        self._walk = walk
+
+    def order(self):
+        """A list by which traces are in the order of stories if they are ascending."""
+        return self._choice.order()
+
+    def facts(self):
+        """The facts of these runs."""
+        return self._choice.facts()
 
     def end(self):
         """The word and the place with which these runs end."""
@@ -26,12 +31,22 @@ class Trace:
 
     def can(self):
         """The ascending pairs (place, reader) that some of these runs reach."""
-        return sorted([(place, reader) for place, search in self._searches.items() for reader in search.readers()
+        searches = [(place, self._search(place)) for place in self._walk.written]
+        return sorted([(place, reader) for place, search in searches for reader in search.readers()
                        if search.settings(reader) is not None])
 
     def witness(self, place, reader):
         """A heap of which the run reaches the pair, or None."""
-        if place not in self._searches:
+        if place not in self._walk.written:
             return None
-        settings = self._searches[place].settings(reader)
+        settings = self._search(place).settings(reader)
         return None if settings is None else self._choice.heap_with(settings)
+
+    def _search(self, place):
+        return Search(self._walk.machine, self._walk.written.index(place), self._choice)
+
+
+def all_traces(program):
+    """Yields the traces of all choices of the program, in the order and with the error of all_choices()."""
+    for choice, (walk,) in all_choices([program]):
+        yield Trace(choice, walk)

@@ -18,7 +18,7 @@ def is_word(value):
     """True if the value is a string of 1 to 8 letters from a to z."""
     if not isinstance(value, str) or not 1 <= len(value) <= MOST_LETTERS:
         return False
-    return all(["a" <= letter <= "z" for letter in value])
+    return value.isascii() and value.isalpha() and value.islower()
 
 
 def is_one_of(value, words):
