@@ -48,7 +48,7 @@ ROWS_2001 = [("empty", "x",
               [("look", "c", "z", "g"), ("look", "b", "z", "f")],
               [("look", "b", "x", "g"), ("look", "b", "z", "f"), ("look", "b", "x", "f"), ("look", "c", "z", "g")])]
 
-# Looks that are not hollow: a program with the inputs a, b and c, the fields f and g and four of them has 1,251 stories.
+# Looks that are never hollow. With the inputs a, b and c and the fields f and g, a program of them has 1,251 stories.
 GUARDED = [("empty", name, [], [("look", "v", name, field)]) for name, field in [("a", "f"), ("b", "f"), ("c", "f"),
                                                                                 ("a", "g")]]
 FIFTH = ("empty", "b", [], [("look", "v", "b", "g")])

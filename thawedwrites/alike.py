@@ -9,7 +9,7 @@ def ends_alike(one, other):
     if one.inputs != other.inputs or one.fields != other.fields or len(one.outputs) != len(other.outputs):
         raise InvalidArgument("other")
     found = None
-    # What is chosen are joint facts, so one heap stands for all that fit them. All are gone through because of the limit.
+    # What is chosen are joint facts, so one heap stands for all that fit them; all are gone through for the limit.
     for choice, (walk, further) in all_choices([one, other]):
         if found is None and told_end(walk, one.outputs) != told_end(further, other.outputs):
             found = choice.heap()
