@@ -18,8 +18,7 @@ class Facts:
             raise InvalidFacts("names")
         if not are_told_edges(edges, fields):
             raise InvalidFacts("edges")
-        # An open field leads to no label, as if it held None.
-        numbers = new_numbers(names, lambda fresh: [edges.get((one, field)) for one in fresh for field in fields])
+        numbers = label_numbers(fields, names, edges)
         if not all([label in numbers for label, _ in edges]):
             raise InvalidFacts("far")
         if len(numbers) > MOST_LABELS:
@@ -112,6 +111,12 @@ def is_told_value(value):
 def is_label(value):
     """True if the value is an integer from 0."""
     return is_integer(value) and value >= 0
+
+
+def label_numbers(fields, names, edges):
+    """A dict from the reached labels to their numbers in normal form, in the order of these."""
+    # An open field leads to no label, as if it held None.
+    return new_numbers(names, lambda fresh: [edges.get((one, field)) for one in fresh for field in fields])
 
 
 def first_ways(names, edges):
